@@ -1,6 +1,7 @@
 package tests
 
 import (
+	"fmt"
 	"reflect"
 	"testing"
 
@@ -38,5 +39,47 @@ func wantZero(t *testing.T, call string, ok bool, results ...any) {
 		if !v.IsZero() {
 			t.Errorf("%s fails with the result %v, want a zero value", call, x)
 		}
+	}
+}
+
+// changedByOneByte returns a text in which one of the bytes is put in or takes
+// the place of another one, or in which a byte is missing, and its beginnings.
+func changedByOneByte(text, bytes string) []string {
+	var list []string
+	for i := range len(text) + 1 {
+		for k := range len(bytes) {
+			list = append(list, text[:i]+bytes[k:k+1]+text[i:])
+			if i < len(text) {
+				list = append(list, text[:i]+bytes[k:k+1]+text[i+1:])
+			}
+		}
+		if i < len(text) {
+			list = append(list, text[:i]+text[i+1:], text[:i])
+		}
+	}
+	return list
+}
+
+// wantExactReader requires that whatever a reader accepts is the text of what it
+// has read, and that it fails otherwise. The texts are changed by one byte in
+// every way; some of them remain texts.
+func wantExactReader[T any](t *testing.T, read func(string) (T, bool), textOf func(T) (string, bool), texts []string, bytes string) {
+	t.Helper()
+	accepted := 0
+	for _, text := range texts {
+		for _, s := range changedByOneByte(text, bytes) {
+			x, ok := read(s)
+			if !ok {
+				wantZero(t, fmt.Sprintf("reading %q", s), ok, x)
+				continue
+			}
+			accepted++
+			if back, ok := textOf(x); !ok || back != s {
+				t.Errorf("%q is read as %v, whose text is %q, %v", s, x, back, ok)
+			}
+		}
+	}
+	if accepted == 0 {
+		t.Error("no changed text is read")
 	}
 }

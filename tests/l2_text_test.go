@@ -118,37 +118,11 @@ func TestTextsOfInvalidMaps(t *testing.T) {
 	}
 }
 
-// Whatever is read has exactly the text from which it was read: a text is
-// changed by one byte in every way.
+// Whatever is read has exactly the text from which it was read.
 func TestTextsChangedByOneByte(t *testing.T) {
-	const bytes = "\x00\t\n\r +-/0123456789:amprsv\x80\xff"
-	read := 0
-	try := func(s string) {
-		m, ok := impl.ParseMap(s)
-		if !ok {
-			wantNoMap(t, s)
-			return
-		}
-		read++
-		if !impl.IsMap(m) || textOf(t, m) != s {
-			t.Errorf("ParseMap(%q) = %v, whose text is another one", s, m)
-		}
-	}
+	var texts []string
 	for _, c := range mapTexts {
-		for i := range len(c.text) + 1 {
-			for k := range len(bytes) {
-				try(c.text[:i] + bytes[k:k+1] + c.text[i:])
-				if i < len(c.text) {
-					try(c.text[:i] + bytes[k:k+1] + c.text[i+1:])
-				}
-			}
-			if i < len(c.text) {
-				try(c.text[:i] + c.text[i+1:])
-				try(c.text[:i])
-			}
-		}
+		texts = append(texts, c.text)
 	}
-	if read == 0 {
-		t.Error("no changed text is read, not even one with another terrain")
-	}
+	wantExactReader(t, impl.ParseMap, impl.MapText, texts, "\x00\t\n\r +-/0123456789:amprsv\x80\xff")
 }
