@@ -3,6 +3,7 @@ package tests
 import (
 	"fmt"
 	"reflect"
+	"slices"
 	"testing"
 
 	"loop.example/g00886/impl"
@@ -39,6 +40,57 @@ func wantZero(t *testing.T, call string, ok bool, results ...any) {
 		if !v.IsZero() {
 			t.Errorf("%s fails with the result %v, want a zero value", call, x)
 		}
+	}
+}
+
+// wantNumber and wantList require a call to succeed with a result.
+func wantNumber(t *testing.T, call string, n int, ok bool, want int) {
+	t.Helper()
+	if !ok || n != want {
+		t.Errorf("%s: %d, %v, want %d", call, n, ok, want)
+	}
+}
+
+func wantList(t *testing.T, call string, list []int, ok bool, want []int) {
+	t.Helper()
+	if !ok || !slices.Equal(list, want) {
+		t.Errorf("%s: %v, %v, want %v", call, list, ok, want)
+	}
+}
+
+// wantNewLists makes each call twice, overwrites and extends the first result,
+// and requires the second one and that of a third call to stay as they are.
+func wantNewLists(t *testing.T, calls map[string]func() ([]int, bool)) {
+	t.Helper()
+	for name, call := range calls {
+		first, ok := call()
+		second, ok2 := call()
+		want := slices.Clone(first)
+		overwrite(first)
+		third, ok3 := call()
+		if !ok || !ok2 || !ok3 || len(want) == 0 || !slices.Equal(second, want) || !slices.Equal(third, want) {
+			t.Errorf("%s: %v and %v after the first result was overwritten, want %v", name, second, third, want)
+		}
+	}
+}
+
+// wantListsApart overwrites and extends the lists of a result one by one, then
+// all of them, and requires the others and the next results to stay as they are.
+func wantListsApart(t *testing.T, name string, call func() [][]int) {
+	t.Helper()
+	want, second := call(), call()
+	for n := range want {
+		lists := call()
+		overwrite(lists[n])
+		for k, list := range lists {
+			if k != n && !slices.Equal(list, want[k]) {
+				t.Fatalf("%s: list %d changes with list %d: %v", name, k, n, list)
+			}
+		}
+		overwriteLists(lists)
+	}
+	if !sameLists(second, want) || !sameLists(call(), want) {
+		t.Fatalf("%s: other lists change with an overwritten result", name)
 	}
 }
 

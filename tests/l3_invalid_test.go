@@ -325,43 +325,19 @@ func TestMirroredBoardsAreNew(t *testing.T) {
 func TestRegionsAreApart(t *testing.T) {
 	for _, b := range variedBoards() {
 		for kind := range b.Rules.Kinds {
-			want, second := regionsOf(t, b, kind), regionsOf(t, b, kind)
-			for n := range want {
-				regions := regionsOf(t, b, kind)
-				overwrite(regions[n])
-				for k, region := range regions {
-					if k != n && !slices.Equal(region, want[k]) {
-						t.Fatalf("region %d on %v changes with region %d: %v", k, b.Map, n, region)
-					}
-				}
-				overwriteLists(regions)
-			}
-			if !sameLists(second, want) || !sameLists(regionsOf(t, b, kind), want) {
-				t.Fatalf("other regions on %v change with an overwritten result", b.Map)
-			}
+			wantListsApart(t, fmt.Sprint("RegionsOf ", kind, " on ", b.Map), func() [][]int { return regionsOf(t, b, kind) })
 		}
 	}
 }
 
-// Each list of numbers is called for twice; the second one stays as it is.
 func TestListsOfBoardsAreNew(t *testing.T) {
 	b := impl.Board{Rules: fullRules(), Map: variedMap(2, 2)}
 	b.Rules.Kinds[0].Moves = 0
 	few := sizedRules(1, 1)
-	calls := map[string]func() ([]int, bool){
+	wantNewLists(t, map[string]func() ([]int, bool){
 		"OpenHexes":       func() ([]int, bool) { return impl.OpenHexes(b, 0) },
 		"StuckKinds":      func() ([]int, bool) { return impl.StuckKinds(b) },
 		"UnusedTerrains":  func() ([]int, bool) { return impl.UnusedTerrains(b) },
 		"MissingTerrains": func() ([]int, bool) { return impl.MissingTerrains(few, b.Map) },
-	}
-	for name, call := range calls {
-		first, ok := call()
-		second, ok2 := call()
-		want := slices.Clone(first)
-		overwrite(first)
-		third, ok3 := call()
-		if !ok || !ok2 || !ok3 || len(want) == 0 || !slices.Equal(second, want) || !slices.Equal(third, want) {
-			t.Errorf("%s: %v and %v after the first result was overwritten, want %v", name, second, third, want)
-		}
-	}
+	})
 }

@@ -88,7 +88,7 @@ func TestPlacedUnitsAreFound(t *testing.T) {
 	}
 	for i, want := range [][]int{{2}, {0}, {1}, {4}, {6}, nil, {8}, nil} {
 		list, ok := impl.UnitsAt(b, placed, i)
-		wantUnits(t, fmt.Sprint("UnitsAt ", i), list, ok, want)
+		wantList(t, fmt.Sprint("UnitsAt ", i), list, ok, want)
 	}
 }
 
@@ -215,7 +215,7 @@ func TestSwapSidesTwice(t *testing.T) {
 		for side := range 2 {
 			own, _ := impl.UnitsOf(p.board, p.state, side)
 			other, ok := impl.UnitsOf(p.board, swapped, 1-side)
-			wantUnits(t, fmt.Sprint("UnitsOf ", 1-side, " of ", swapped), other, ok, own)
+			wantList(t, fmt.Sprint("UnitsOf ", 1-side, " of ", swapped), other, ok, own)
 		}
 	}
 }

@@ -197,21 +197,6 @@ func wantState(t *testing.T, b impl.Board, s impl.State, want bool) {
 	}
 }
 
-// wantNumber and wantUnits require a call to succeed with a result.
-func wantNumber(t *testing.T, call string, n int, ok bool, want int) {
-	t.Helper()
-	if !ok || n != want {
-		t.Errorf("%s: %d, %v, want %d", call, n, ok, want)
-	}
-}
-
-func wantUnits(t *testing.T, call string, list []int, ok bool, want []int) {
-	t.Helper()
-	if !ok || !slices.Equal(list, want) {
-		t.Errorf("%s: %v, %v, want %v", call, list, ok, want)
-	}
-}
-
 // wantChanged requires a call to succeed with a state that is valid.
 func wantChanged(t *testing.T, call string, b impl.Board, s impl.State, ok bool, want impl.State) {
 	t.Helper()

@@ -171,7 +171,7 @@ func TestEqualUnits(t *testing.T) {
 		s := stateOf(slices.Repeat([]impl.Unit{unit(1, 0, 0, 1)}, stack)...)
 		wantState(t, b, s, true)
 		list, ok := impl.UnitsAt(b, s, 0)
-		wantUnits(t, "UnitsAt with equal units", list, ok, []int{0, 1, 2, 3}[:stack])
+		wantList(t, "UnitsAt with equal units", list, ok, []int{0, 1, 2, 3}[:stack])
 		less, ok := impl.LoseSteps(b, s, stack-1, 1)
 		want := copyState(s)
 		want.Units[stack-1] = unit(1, 0, -1, 0)

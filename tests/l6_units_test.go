@@ -29,7 +29,7 @@ func TestHexesOfCamp(t *testing.T) {
 	b, s := campBoard(), campState()
 	for i, want := range campHexes {
 		units, ok := impl.UnitsAt(b, s, i)
-		wantUnits(t, fmt.Sprint("UnitsAt ", i), units, ok, want.units)
+		wantList(t, fmt.Sprint("UnitsAt ", i), units, ok, want.units)
 		owner, ok := impl.OwnerOf(b, s, i)
 		wantNumber(t, fmt.Sprint("OwnerOf ", i), owner, ok, want.owner)
 		for side := range 2 {
@@ -40,9 +40,9 @@ func TestHexesOfCamp(t *testing.T) {
 		}
 	}
 	first, ok := impl.UnitsOf(b, s, 0)
-	wantUnits(t, "UnitsOf 0", first, ok, []int{0, 2, 6, 8})
+	wantList(t, "UnitsOf 0", first, ok, []int{0, 2, 6, 8})
 	second, ok := impl.UnitsOf(b, s, 1)
-	wantUnits(t, "UnitsOf 1", second, ok, []int{1, 4})
+	wantList(t, "UnitsOf 1", second, ok, []int{1, 4})
 	m, n, ok := impl.CountSteps(b, s)
 	wantNumber(t, "CountSteps of side 0", m, ok, 9)
 	wantNumber(t, "CountSteps of side 1", n, ok, 3)
@@ -54,11 +54,11 @@ func wantNoUnits(t *testing.T, b impl.Board, s impl.State) {
 	what := fmt.Sprint(" of ", s)
 	for side := range 2 {
 		list, ok := impl.UnitsOf(b, s, side)
-		wantUnits(t, fmt.Sprint("UnitsOf ", side, what), list, ok, nil)
+		wantList(t, fmt.Sprint("UnitsOf ", side, what), list, ok, nil)
 	}
 	for i := range b.Map.Terrain {
 		list, ok := impl.UnitsAt(b, s, i)
-		wantUnits(t, fmt.Sprint("UnitsAt ", i, what), list, ok, nil)
+		wantList(t, fmt.Sprint("UnitsAt ", i, what), list, ok, nil)
 		owner, ok := impl.OwnerOf(b, s, i)
 		wantNumber(t, fmt.Sprint("OwnerOf ", i, what), owner, ok, -1)
 		for side := range 2 {
@@ -90,7 +90,7 @@ func wantHex(t *testing.T, p position, i int) {
 	b, s := p.board, p.state
 	what := fmt.Sprint(" ", i, " of ", s)
 	units, ok := impl.UnitsAt(b, s, i)
-	wantUnits(t, "UnitsAt"+what, units, ok, unitsBySearch(s, func(u impl.Unit) bool { return u.At == i }))
+	wantList(t, "UnitsAt"+what, units, ok, unitsBySearch(s, func(u impl.Unit) bool { return u.At == i }))
 	wantOwner := -1
 	var room, strength [2]int
 	for side := range 2 {
@@ -130,7 +130,7 @@ func TestUnitsOfSides(t *testing.T) {
 		for side := range 2 {
 			want := unitsBySearch(p.state, func(u impl.Unit) bool { return u.At >= 0 && u.Side == side })
 			list, ok := impl.UnitsOf(p.board, p.state, side)
-			wantUnits(t, fmt.Sprint("UnitsOf ", side, " of ", p.state), list, ok, want)
+			wantList(t, fmt.Sprint("UnitsOf ", side, " of ", p.state), list, ok, want)
 			for _, n := range want {
 				counts[side] += p.state.Units[n].Steps
 			}
