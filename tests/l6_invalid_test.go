@@ -233,8 +233,10 @@ func callAllOnState(b impl.Board, s impl.State) {
 	overwriteState(read)
 }
 
-func TestStatesAreNotChanged(t *testing.T) {
-	list := positions()[:60]
+// wantPositionsUnchanged requires calls to change neither the positions of a
+// list nor those that are not valid, nor what lies behind their lists.
+func wantPositionsUnchanged(t *testing.T, list []position, callAll func(b impl.Board, s impl.State)) {
+	t.Helper()
 	for _, s := range invalidStates() {
 		list = append(list, position{campBoard(), s})
 	}
@@ -244,7 +246,7 @@ func TestStatesAreNotChanged(t *testing.T) {
 	for _, p := range list {
 		b, s := boardWithSpare(p.board), stateWithSpare(p.state)
 		keptBoard, keptState := wholeOf(b), wholeState(s)
-		callAllOnState(b, s)
+		callAll(b, s)
 		if now := wholeOf(b); now != keptBoard {
 			t.Fatalf("%s is changed to %s", keptBoard, now)
 		}
@@ -252,6 +254,10 @@ func TestStatesAreNotChanged(t *testing.T) {
 			t.Fatalf("%s is changed to %s", keptState, now)
 		}
 	}
+}
+
+func TestStatesAreNotChanged(t *testing.T) {
+	wantPositionsUnchanged(t, positions()[:60], callAllOnState)
 }
 
 // What lies behind the lists of a board and of a state plays no part.
