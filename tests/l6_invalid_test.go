@@ -294,6 +294,21 @@ func stateCalls(b impl.Board, s impl.State) map[string]func() (impl.State, bool)
 	}
 }
 
+// wantNewState makes a call with a state three times, overwrites and extends the
+// first result, and requires the others and the given state to stay as they are.
+func wantNewState(t *testing.T, name string, s impl.State, call func() (impl.State, bool)) {
+	t.Helper()
+	kept := copyState(s)
+	first, ok := call()
+	second, ok2 := call()
+	want := copyState(second)
+	overwriteState(first)
+	third, ok3 := call()
+	if !ok || !ok2 || !ok3 || !sameState(second, want) || !sameState(third, want) || !sameState(s, kept) {
+		t.Fatalf("%s of %v: %v and %v after the first result was overwritten, want %v", name, kept, second, third, want)
+	}
+}
+
 // A state that is returned shares no memory with the given one, nor with another
 // result, also where nothing changes.
 func TestChangedStatesAreNew(t *testing.T) {
@@ -302,15 +317,7 @@ func TestChangedStatesAreNew(t *testing.T) {
 			continue
 		}
 		for name, call := range stateCalls(p.board, p.state) {
-			kept := copyState(p.state)
-			first, ok := call()
-			second, ok2 := call()
-			want := copyState(second)
-			overwriteState(first)
-			third, ok3 := call()
-			if !ok || !ok2 || !ok3 || !sameState(second, want) || !sameState(third, want) || !sameState(p.state, kept) {
-				t.Fatalf("%s of %v: %v and %v after the first result was overwritten, want %v", name, kept, second, third, want)
-			}
+			wantNewState(t, name, p.state, call)
 		}
 	}
 }
