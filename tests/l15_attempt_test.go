@@ -183,7 +183,7 @@ func TestEnemies(t *testing.T) {
 func TestSwaps(t *testing.T) {
 	for _, hexes := range [][]int{{0, ^1}, {^0, 1}, {1, ^0}, {^1, 0}} {
 		p := lane(3, scouts(hexes...)...).stacking(1)
-		l := p.tries(0, max(p.state.Units[1].At, 0), 1, p.state.Units[0].At)
+		l := p.tries(0, p.state.Units[1].At, 1, p.state.Units[0].At)
 		wantReasons(t, p, l, impl.ReSwap, impl.ReSwap)
 		wantSettled(t, p, l, 1)
 		p.state.Units[0].Side = p.state.Units[1].Side
